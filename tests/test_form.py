@@ -1,0 +1,99 @@
+"""The form of the package's files: what of the language's rules can be counted or looked up."""
+
+import ast
+import builtins
+import pathlib
+import unittest
+
+PACKAGE = pathlib.Path(__file__).resolve().parent.parent / "wheelmarks"
+LIBRARY = {"heapq", "math", "itertools", "collections"}
+BARRED = (
+    ast.Global, ast.AsyncFunctionDef, ast.AsyncFor, ast.AsyncWith, ast.Await, ast.Div, ast.GeneratorExp, ast.Import,
+    ast.Lambda, ast.Yield, ast.YieldFrom,
+)
+METHODS = set(
+    "append clear copy count endswith extend find get index insert isalnum isalpha isdigit islower isspace isupper "
+    "items join keys ljust lower lstrip partition pop remove replace reverse rfind rjust rpartition rsplit rstrip "
+    "setdefault split splitlines startswith strip update upper values zfill bit_length".split()
+)
+CALLED = set(
+    "len range enumerate zip min max sum abs sorted reversed int str bool list tuple dict set isinstance ord repr "
+    "any all divmod LookupError ValueError TypeError".split()
+)
+
+
+def bound_names(tree):
+    for node in ast.walk(tree):
+        if isinstance(node, (ast.FunctionDef, ast.ClassDef)) and not node.name.startswith("__"):
+            yield node.name
+        elif isinstance(node, ast.arg):
+            yield node.arg
+        elif isinstance(node, ast.Name) and isinstance(node.ctx, ast.Store):
+            yield node.id
+        elif isinstance(node, ast.ImportFrom):
+            yield from [word.name for word in node.names]
+
+
+class Form(unittest.TestCase):
+    def setUp(self):
+        self.files = {path: path.read_text(encoding="utf-8") for path in sorted(PACKAGE.glob("*.py"))}
+        self.trees = {path: ast.parse(text) for path, text in self.files.items()}
+
+    def nodes(self, *kinds):
+        for path, tree in self.trees.items():
+            for node in ast.walk(tree):
+                if isinstance(node, kinds):
+                    yield path.name, node
+
+    def test_only_plain_files(self):
+        found = [path.name for path in PACKAGE.iterdir() if path.name != "__pycache__"]
+        self.assertEqual(sorted(found), [path.name for path in self.files])
+        self.assertIn("__init__.py", found)
+
+    def test_sizes_and_signs(self):
+        for path, text in self.files.items():
+            lines = text.split("\n")
+            self.assertLess(len(lines), 400, path.name)
+            self.assertLessEqual(max(len(line) for line in lines), 120, path.name)
+            self.assertTrue(all(sign == "\n" or " " <= sign <= "~" for sign in text), path.name)
+        for name, node in self.nodes(ast.FunctionDef):
+            self.assertLessEqual(node.end_lineno - node.lineno + 1, 40, f"{name}: {node.name}")
+
+    def test_imports(self):
+        for name, node in self.nodes(ast.ImportFrom):
+            known = node.module in LIBRARY or node.module.startswith("wheelmarks.")
+            self.assertTrue(known and node.level == 0, f"{name}: {node.module}")
+            self.assertFalse([word for word in node.names if word.asname or word.name == "*"], name)
+
+    def test_no_two_files_need_each_other(self):
+        needs = {path.stem: set() for path in self.files}
+        for name, node in self.nodes(ast.ImportFrom):
+            if node.module.startswith("wheelmarks."):
+                needs[name[:-3]].add(node.module.split(".")[1])
+        while needs:
+            free = [name for name, wanted in needs.items() if not wanted & set(needs)]
+            self.assertTrue(free, f"a round of imports among {sorted(needs)}")
+            for name in free:
+                del needs[name]
+
+    def test_barred_nodes(self):
+        self.assertEqual([(name, type(node).__name__, node.lineno) for name, node in self.nodes(*BARRED)], [])
+        for name, node in self.nodes(ast.Constant):
+            self.assertNotIsInstance(node.value, (float, complex), name)
+
+    def test_names(self):
+        for path, tree in self.trees.items():
+            self.assertEqual([word for word in bound_names(tree) if word in vars(builtins)], [], path.name)
+
+    def test_calls(self):
+        own = {node.name for _, node in self.nodes(ast.FunctionDef, ast.ClassDef)}
+        imported = {word.name for _, node in self.nodes(ast.ImportFrom) for word in node.names}
+        for name, node in self.nodes(ast.Call):
+            if isinstance(node.func, ast.Attribute):
+                self.assertIn(node.func.attr, METHODS | own, f"{name}: {node.lineno}")
+            else:
+                self.assertIn(node.func.id, CALLED | own | imported, f"{name}: {node.lineno}")
+
+
+if __name__ == "__main__":
+    unittest.main()
