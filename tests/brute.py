@@ -118,3 +118,51 @@ def small_mills(random, many, wheels, sayings, dials, lates):
             one, other = random.sample(["", *names], 2)
             told.append((name, one, other, random.choice(lates), random.choice(dials)))
         yield tuple((name, 6, 1) for name in names), tuple(told)
+
+
+def kept_mills(random, many, wheels, sayings, dials, rounds=((6, 1),)):
+    """So many pairs of a MILL that has a SETTING, and one of its SETTINGS."""
+    names = "abcdefgh"[:wheels]
+    for _ in range(many):
+        begins = {"": 0, **{name: random.randrange(-3, 4) for name in names}}
+        told = []
+        for name in "klmnopqrstuv"[:sayings]:
+            one, other = random.sample(["", *names], 2)
+            dial = random.choice(dials)
+            late = begins[other] - begins[one] + random.randrange(-1, 2) * dial
+            told.append((name, one, other, late, dial))
+        turned = tuple((name, *random.choice(rounds)) for name in names)
+        yield (turned, tuple(told)), tuple((name, begins[name]) for name in names)
+
+
+def turn_of(mill, *numbers):
+    """What all dials but 0 and these numbers divide, and more than what one of the dials tells."""
+    turn = math.lcm(*[saying[4] for saying in mill[1] if saying[4] != 0], *numbers)
+    return 2 * turn
+
+
+def told_up_to(late, begun, number):
+    """Whether begins, a dict of them, keep (one, other, late, dial), dial 0 being this number."""
+    one, other, far, dial = late
+    return (begun[other] - begun[one] - far) % (dial or number) == 0
+
+
+def begins_up_to(mill, number):
+    """All BEGINS from 0 below the number that keep the SAYINGS up to it, each a dict with the crank."""
+    names = [wheel[0] for wheel in mill[0]]
+    found = [{"": 0}]
+    for name in names:
+        found = [{**begun, name: begin} for begun in found for begin in range(number)]
+        told = [saying[1:] for saying in mill[1] if {saying[1], saying[2]} <= set(found[0])] if found else []
+        found = [begun for begun in found if all(told_up_to(late, begun, number) for late in told)]
+    return found
+
+
+def as_begins(begun):
+    return tuple(sorted((name, begin) for name, begin in begun.items() if name))
+
+
+def sign_at(wheel, begin, tick):
+    """The place of this tick in the stretch in which the WHEEL shows, None if it does not show."""
+    place = (tick - begin) % wheel[1]
+    return place if place < wheel[2] else None

@@ -1,14 +1,19 @@
 """Lists for tuples, arguments by name, and that nothing handed in or told is shared."""
 
+import ast
 import copy
 import inspect
+import pathlib
 import unittest
 
 from tests.samples import BEGINS, EDGES, EMPTY, FURTHER, GREAT, MILL, SQUARE, TWO, WRONG, has_list, listed, mixed
-from wheelmarks import mills, rings
-from wheelmarks.errors import NoSaying, NoWheel, Twice, Unfit
+from wheelmarks import covers, meets, mills, rings, settings, sures
+from wheelmarks.errors import NoNumber, NoSaying, NoSetting, NoWheel, Twice, Unfit
 
 PQR = (("p", 1), ("q", 1), ("r", -1))
+FREE = (MILL[0], MILL[1][:1])
+LATER = (("a", 2), ("b", 5), ("c", 19))
+MORE = (("d", "b", "c", 0, 2, 0), ("e", "b", "c", 1, 4, 0), ("f", "", "c", -1, 3, 1))
 CALLS = (
     (mills.is_mill, {"thing": MILL}),
     (mills.is_begins, {"mill": MILL, "thing": FURTHER}),
@@ -37,6 +42,51 @@ CALLS = (
     (rings.is_bad_ring, {"mill": WRONG, "thing": PQR}),
     (rings.least_bad, {"mill": TWO}),
     (rings.kept_lots, {"mill": WRONG}),
+    (sures.sure_late, {"mill": MILL, "one": "a", "other": "c"}),
+    (sures.sure_lates, {"mill": MILL}),
+    (sures.is_sure, {"mill": MILL, "one": "a", "other": "c", "late": 17, "dial": 4}),
+    (sures.all_ways, {"mill": MILL, "one": "c", "other": "a"}),
+    (sures.is_way, {"mill": MILL, "one": "c", "other": "a", "thing": (("q", -1), ("p", -1))}),
+    (sures.sure_ways, {"mill": MILL, "one": "a", "other": "c"}),
+    (sures.is_sure_ways, {"mill": MILL, "one": "a", "other": "c", "thing": ((("p", 1), ("q", 1)), (("r", 1),))}),
+    (sures.fewest_ways, {"mill": MILL, "one": "a", "other": "c"}),
+    (sures.unlike_settings, {"mill": MILL, "one": "a", "other": "c", "dial": 24}),
+    (sures.is_unlike, {"mill": MILL, "one": "a", "other": "c", "dial": 24, "thing": (BEGINS, LATER)}),
+    (sures.hang_together, {"mill": MILL}),
+    (sures.told_lots, {"mill": MILL}),
+    (settings.least_setting, {"mill": MILL}),
+    (settings.setting_with, {"mill": MILL, "begins": (("b", -9), ("c", 17))}),
+    (settings.hinders, {"mill": MILL, "begins": (("b", -9), ("c", 1))}),
+    (settings.is_move, {"mill": MILL, "thing": (("a", 1), ("b", 13), ("c", 1))}),
+    (settings.dials_ahead, {"mill": MILL}),
+    (settings.moves, {"mill": MILL}),
+    (settings.stepped, {"setting": BEGINS, "some": (LATER, FURTHER), "numbers": (2, -1)}),
+    (settings.steps_to, {"mill": MILL, "setting": BEGINS, "goal": (("a", 2), ("b", -7), ("c", -5))}),
+    (settings.common_dial, {"mill": MILL}),
+    (settings.how_many, {"mill": MILL, "number": 24}),
+    (settings.nth_up_to, {"mill": MILL, "number": 24, "place": 7}),
+    (covers.is_more, {"mill": MILL, "thing": MORE}),
+    (covers.is_covered, {"mill": FREE, "more": MORE}),
+    (covers.uncovered, {"mill": FREE, "more": MORE[:2]}),
+    (covers.is_uncovered, {"mill": FREE, "more": MORE, "thing": (("a", 0), ("b", 3), ("c", 1))}),
+    (covers.few_settings, {"mill": FREE, "setting": BEGINS, "moves": (LATER, FURTHER), "more": MORE[:1]}),
+    (covers.needless, {"mill": MILL, "more": (("d", "b", "c", 0, 2, 0), ("e", "b", "c", 2, 6, 0))}),
+    (covers.all_covers, {"mill": MILL, "more": MORE}),
+    (covers.fewest_cover, {"mill": MILL, "more": MORE}),
+    (covers.kept_share, {"mill": FREE, "more": MORE[1:]}),
+    (covers.bare_share, {"mill": FREE, "more": MORE}),
+    (meets.can_meet, {"mill": MILL, "some": ("b", "c")}),
+    (meets.a_choice, {"mill": MILL, "some": ("b", "c")}),
+    (meets.is_choice, {"mill": MILL, "some": ("b", "c"), "thing": (("b", 0), ("c", 0))}),
+    (meets.apart_pair, {"mill": MILL, "choice": (("a", 0), ("b", 1), ("c", 0))}),
+    (meets.meet_mill, {"mill": MILL, "choice": (("b", 1), ("c", 0)), "name": "at", "names": ("o", "s")}),
+    (meets.surely_meet, {"mill": MILL, "some": ("b", "c")}),
+    (meets.unmet, {"mill": FREE, "some": ("b", "c")}),
+    (meets.is_unmet, {"mill": FREE, "some": ("b", "c"), "thing": (("a", 0), ("b", 3), ("c", 1))}),
+    (meets.greatest_lots, {"mill": MILL}),
+    (meets.series, {"mill": MILL, "setting": BEGINS, "some": ("b", "c")}),
+    (meets.first_from, {"mill": MILL, "setting": BEGINS, "some": ("b", "c"), "tick": 12}),
+    (meets.meets_in, {"mill": MILL, "setting": BEGINS, "some": ("b", "c"), "first": -13, "last": 35}),
 )
 REFUSED = (
     (mills.off_by, (MILL, BEGINS, "a"), NoSaying, "a"),
@@ -54,6 +104,19 @@ REFUSED = (
     (rings.rings_of, (MILL, "a"), NoSaying, "a"),
     (rings.ring_sum, (MILL, (("s", 1),)), NoSaying, "s"),
     (rings.ring_divisor, (MILL, (("s", 1),)), NoSaying, "s"),
+    (sures.sure_late, (MILL, "a", "d"), NoWheel, "d"),
+    (sures.sure_lates, (WRONG,), NoSetting, None),
+    (settings.setting_with, (MILL, (("a", 0), ("d", 0))), NoWheel, "d"),
+    (settings.setting_with, (MILL, (("a", 0), ("b", 0))), Unfit, None),
+    (settings.nth_up_to, (MILL, 24, GREAT), NoNumber, None),
+    (settings.how_many, (MILL, 25), Unfit, None),
+    (covers.bare_share, (MILL, (("d", "b", "d", 0, 2, 0),)), NoWheel, "d"),
+    (covers.kept_share, (WRONG, MORE), NoSetting, None),
+    (meets.series, (MILL, BEGINS, ("a", "d")), NoWheel, "d"),
+    (meets.apart_pair, (MILL, (("d", 0),)), NoWheel, "d"),
+    (meets.meet_mill, (MILL, (("a", 0),), "b", ("p",)), Twice, "b"),
+    (meets.meet_mill, (MILL, (("a", 0),), "d", ("p",)), Twice, "p"),
+    (meets.unmet, (WRONG, ("a", "b")), NoSetting, None),
 )
 
 
@@ -64,14 +127,15 @@ def in_lists(named, change):
 
 class Calls(unittest.TestCase):
     def test_each_function_is_here(self):
-        for module in (mills, rings):
-            for name in FUNCTIONS[module]:
+        for module, functions in FUNCTIONS.items():
+            for name in functions:
                 self.assertTrue(any(function is getattr(module, name) for function, _ in CALLS), name)
 
     def test_lists_and_names(self):
         for function, named in CALLS:
             told = function(*named.values())
             self.assertEqual(function(**named), told)
+            self.assertEqual(repr(function(**named)), repr(told))
             self.assertEqual(repr(function(*in_lists(named, listed).values())), repr(told), function.__name__)
             self.assertEqual(repr(function(**in_lists(named, mixed))), repr(told), function.__name__)
 
@@ -110,7 +174,7 @@ class Calls(unittest.TestCase):
     def test_told_mills_are_mills(self):
         for function, named in CALLS:
             if function.__name__ in ("with_wheel", "without_wheel", "with_saying", "without_saying", "turned_saying",
-                                     "tidied", "shifted", "renamed"):
+                                     "tidied", "shifted", "renamed", "meet_mill"):
                 self.assertIs(mills.is_mill(function(**named)), True)
 
     def test_errors_with_lists_too(self):
@@ -141,10 +205,53 @@ FUNCTIONS = {
         "ring_divisor": "mill ring", "can_be_kept": "mill", "bad_ring": "mill", "is_bad_ring": "mill thing",
         "least_bad": "mill", "kept_lots": "mill",
     },
+    sures: {
+        "sure_late": "mill one other", "sure_lates": "mill", "is_sure": "mill one other late dial",
+        "all_ways": "mill one other", "is_way": "mill one other thing", "sure_ways": "mill one other",
+        "is_sure_ways": "mill one other thing", "fewest_ways": "mill one other",
+        "unlike_settings": "mill one other dial", "is_unlike": "mill one other dial thing", "hang_together": "mill",
+        "told_lots": "mill",
+    },
+    settings: {
+        "least_setting": "mill", "setting_with": "mill begins", "hinders": "mill begins", "is_move": "mill thing",
+        "dials_ahead": "mill", "moves": "mill", "stepped": "setting some numbers", "steps_to": "mill setting goal",
+        "common_dial": "mill", "how_many": "mill number", "nth_up_to": "mill number place",
+    },
+    covers: {
+        "is_more": "mill thing", "is_covered": "mill more", "uncovered": "mill more",
+        "is_uncovered": "mill more thing", "few_settings": "mill setting moves more", "needless": "mill more",
+        "all_covers": "mill more", "fewest_cover": "mill more", "kept_share": "mill more", "bare_share": "mill more",
+    },
+    meets: {
+        "can_meet": "mill some", "a_choice": "mill some", "is_choice": "mill some thing", "apart_pair": "mill choice",
+        "meet_mill": "mill choice name names", "surely_meet": "mill some", "unmet": "mill some",
+        "is_unmet": "mill some thing", "greatest_lots": "mill", "series": "mill setting some",
+        "first_from": "mill setting some tick", "meets_in": "mill setting some first last",
+    },
 }
+# What each file needs lies in those ahead of it, or in the ones that the document does not list.
+ROW = (
+    "errors mills rings sures settings covers meets rules lean seen asks wrong bridges hands sheets judge texts board"
+    " desk"
+).split()
 
 
 class Interface(unittest.TestCase):
+    def needed(self, name):
+        """The names of all files of the package that this one needs, through others, too."""
+        path = pathlib.Path(mills.__file__).parent / f"{name}.py"
+        found = set()
+        for node in ast.parse(path.read_text(encoding="utf-8")).body:
+            if isinstance(node, ast.ImportFrom) and node.module.startswith("wheelmarks."):
+                other = node.module.split(".")[1]
+                found |= {other} | self.needed(other)
+        return found
+
+    def test_files_need_those_ahead_alone(self):
+        for module in FUNCTIONS:
+            name = module.__name__.split(".")[1]
+            self.assertEqual([other for other in self.needed(name) if other in ROW[ROW.index(name):]], [], name)
+
     def test_names_and_arguments(self):
         for module, functions in FUNCTIONS.items():
             for name, words in functions.items():

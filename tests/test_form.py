@@ -20,6 +20,8 @@ CALLED = set(
     "len range enumerate zip min max sum abs sorted reversed int str bool list tuple dict set isinstance ord repr "
     "any all divmod LookupError ValueError TypeError".split()
 )
+LAZY = ("range", "zip", "enumerate", "reversed")
+ONCE = ("list", "tuple", "dict", "sorted", "sum", "any", "all", "min", "max", "enumerate", "zip")
 
 
 def bound_names(tree):
@@ -80,6 +82,58 @@ class Form(unittest.TestCase):
         self.assertEqual([(name, type(node).__name__, node.lineno) for name, node in self.nodes(*BARRED)], [])
         for name, node in self.nodes(ast.Constant):
             self.assertNotIsInstance(node.value, (float, complex), name)
+
+    def test_iterated_at_once(self):
+        for path, tree in self.trees.items():
+            fit = set()
+            for node in ast.walk(tree):
+                if isinstance(node, (ast.For, ast.comprehension)):
+                    fit.add(id(node.iter))
+                elif isinstance(node, ast.Call) and isinstance(node.func, ast.Name) and node.func.id in ONCE:
+                    fit.update(id(value) for value in (node.args if node.func.id == "zip" else node.args[:1]))
+            for node in ast.walk(tree):
+                if isinstance(node, ast.Call) and id(node) not in fit:
+                    lazy = isinstance(node.func, ast.Name) and node.func.id in LAZY
+                    view = isinstance(node.func, ast.Attribute) and node.func.attr in ("items", "keys", "values")
+                    self.assertFalse(lazy or view, f"{path.name}: {node.lineno}")
+
+    def test_sets_are_not_kept(self):
+        for path, tree in self.trees.items():
+            fit = set()
+            for node in ast.walk(tree):
+                if isinstance(node, ast.Assign) and isinstance(node.targets[0], ast.Name):
+                    fit.add(id(node.value))
+                elif isinstance(node, ast.Call) and isinstance(node.func, ast.Name) and node.func.id in ("sorted", "len"):
+                    fit.update(id(value) for value in node.args)
+            for node in ast.walk(tree):
+                made = isinstance(node, ast.Call) and isinstance(node.func, ast.Name) and node.func.id == "set"
+                if made or isinstance(node, (ast.Set, ast.SetComp)):
+                    self.assertIn(id(node), fit, f"{path.name}: {node.lineno}")
+
+    def test_reversed_takes_a_new_list(self):
+        for name, node in self.nodes(ast.Call):
+            if isinstance(node.func, ast.Name) and node.func.id == "reversed":
+                taken = node.args[0]
+                self.assertIn(taken.func.id, ("list", "tuple", "sorted", "range"), f"{name}: {node.lineno}")
+
+    def test_stars_are_for_own_functions(self):
+        own = {node.name for _, node in self.nodes(ast.FunctionDef, ast.ClassDef)}
+        for name, node in self.nodes(ast.Call):
+            if any(isinstance(value, ast.Starred) for value in node.args):
+                self.assertIn(node.func.id, own | {"max", "min", "zip"}, f"{name}: {node.lineno}")
+
+    def test_locals_are_no_imports(self):
+        for path, tree in self.trees.items():
+            taken = {word.name for node in tree.body if isinstance(node, ast.ImportFrom) for word in node.names}
+            taken |= {node.name for node in tree.body if isinstance(node, ast.ClassDef)}
+            for part in ast.walk(tree):
+                if isinstance(part, ast.FunctionDef):
+                    self.assertFalse(taken & set(bound_names(part)), f"{path.name}: {part.name}")
+
+    def test_exponents(self):
+        for name, node in self.nodes(ast.BinOp):
+            if isinstance(node.op, ast.Pow):
+                self.assertIsInstance(node.right, ast.Constant, f"{name}: {node.lineno}")
 
     def test_names(self):
         for path, tree in self.trees.items():

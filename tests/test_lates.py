@@ -5,7 +5,8 @@ import unittest
 
 from tests.brute import keeps, small_mills, window
 from tests.samples import EDGES, EMPTY, GREAT, MILL, WRONG
-from wheelmarks.lates import class_of, class_sum, common_class, inverse, sure_table
+from wheelmarks.errors import NoSetting
+from wheelmarks.lates import class_of, class_sum, common_class, flat, inverse, need_table, sure_table, told_too
 from wheelmarks.values import is_multiple, tupled
 
 REACH = range(-40, 41)
@@ -55,6 +56,31 @@ class Table(unittest.TestCase):
         self.assertEqual(sure_table(EMPTY), {("", ""): (0, 0)})
         self.assertIsNone(sure_table(WRONG))
         self.assertEqual(sure_table(EDGES)["", "qq"], (1, GREAT))
+
+    def test_needed(self):
+        self.assertEqual(need_table(MILL), sure_table(MILL))
+        with self.assertRaises(NoSetting):
+            need_table(WRONG)
+
+    def test_told_one_behind_another(self):
+        told = set()
+        for mill in small_mills(random.Random(10), 80, 3, 5, (0, 1, 2, 3, 4, 6), range(-2, 3)):
+            ends = ["", "a", "b", "c"]
+            table = sure_table((mill[0], ()))
+            for at, (_, one, other, late, dial) in enumerate(mill[1]):
+                before = dict(table)
+                narrowed = told_too(ends, table, one, other, class_of(late, dial))
+                self.assertEqual(table, before)
+                self.assertEqual(narrowed, sure_table((mill[0], mill[1][:at + 1])), mill)
+                told.add(narrowed is None)
+                if narrowed is None:
+                    break
+                table = narrowed
+        self.assertEqual(told, {True, False})
+
+    def test_flat(self):
+        level = (MILL[0], tuple((name, one, other, 0, dial) for name, one, other, _, dial in MILL[1]))
+        self.assertEqual(flat(sure_table(MILL)), sure_table(level))
 
     def test_settings_gone_through(self):
         for mill in small_mills(random.Random(9), 60, 2, 4, (0, 1, 2, 3, 4), range(-2, 3)):

@@ -3,20 +3,13 @@ import random
 import unittest
 
 from tests.brute import keeps, small_mills
+from tests.case import Case
 from tests.samples import BARE, BEGINS, EDGES, EMPTY, FURTHER, GREAT, MILL, MILLS
 from wheelmarks.errors import NoSaying, NoWheel, Twice, Unfit
 from wheelmarks.mills import (
     is_begins, is_mill, is_setting, last_show, next_show, off_by, renamed, shifted, showing, shows_at, tidied,
     turned_saying, unkept, with_saying, with_wheel, without_saying, without_wheel,
 )
-
-
-class Case(unittest.TestCase):
-    def raises(self, kind, told, function, *values):
-        with self.assertRaises(kind) as caught:
-            function(*values)
-        self.assertIs(type(caught.exception), kind)
-        self.assertEqual(vars(caught.exception), told)
 
 
 class Examples(Case):

@@ -2,6 +2,7 @@
 
 from math import gcd
 
+from wheelmarks.errors import NoSetting
 from wheelmarks.values import end_names, is_multiple
 
 
@@ -28,9 +29,10 @@ def common_class(first, second):
     divisor = gcd(dial, other)
     if not is_multiple(goal - late, divisor):
         return None
-    if dial == 0:
+    # If one CLASS lies in the other one, nothing need be reckoned.
+    if divisor == other:
         return first
-    if other == 0:
+    if divisor == dial:
         return second
     left = other // divisor
     times = (goal - late) // divisor * inverse(dial // divisor, left) % left
@@ -82,3 +84,39 @@ def sure_table(mill):
                     if not narrow(table, one, other, told):
                         return None
     return table
+
+
+def need_table(mill):
+    """As sure_table, but that it raises NoSetting if there is no SETTING."""
+    table = sure_table(mill)
+    if table is None:
+        raise NoSetting()
+    return table
+
+
+def told_too(ends, table, one, other, told):
+    """The table of what is sure if this CLASS of other's lates behind one is told, too.
+
+    None if what is sure already does not go with it. The table handed in stays as it is.
+    """
+    both = common_class(table[one, other], told)
+    if both is None:
+        return None
+    if both == table[one, other]:
+        return table
+    more = {pair: known for pair, known in table.items()}
+    back = class_of(-told[0], told[1])
+    # A WAY takes the new step once at most, so no WAY is left out here.
+    for start in ends:
+        there = class_sum(table[start, one], told)
+        again = class_sum(table[start, other], back)
+        for goal in ends:
+            if start < goal:
+                narrow(more, start, goal, class_sum(there, table[other, goal]))
+                narrow(more, start, goal, class_sum(again, table[one, goal]))
+    return more
+
+
+def flat(table):
+    """The table of the same SAYINGS with 0 for each late, which MOVES keep."""
+    return {pair: (0, known[1]) for pair, known in table.items()}

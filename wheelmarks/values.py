@@ -59,6 +59,14 @@ def need_wheel(mill, name):
         raise NoWheel(name)
 
 
+def wheels_called(mill, names):
+    """The WHEELS with these names, in the order of the names; raises NoWheel for the first that is none."""
+    wheels = {wheel[0]: wheel for wheel in mill[0]}
+    for name in names:
+        need_wheel(mill, name)
+    return [wheels[name] for name in names]
+
+
 def need_end(mill, name):
     """As need_wheel, but that the crank is let, too."""
     if name not in end_names(mill):
