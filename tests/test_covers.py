@@ -137,6 +137,11 @@ class Edges(Case):
             self.assertEqual(bare_share(tied, (("e", "b", "a", -late, 0, 0),)), (1 - told[0], 1))
         self.assertEqual(kept_share(tied, (("e", "a", "b", 2, 0, 3), ("f", "b", "a", 0, 5, 0))), (1, 1))
 
+    def test_shares_of_what_goes_not_together(self):
+        more = (("d", "a", "b", 0, 4, 0), ("e", "a", "b", 1, 6, 0), ("f", "b", "c", 1, 10, 0))
+        self.assertEqual((bare_share(FREE, more[:2]), kept_share(FREE, more[:2])), ((7, 12), (0, 1)))
+        self.assertEqual((bare_share(FREE, more), kept_share(FREE, more)), ((21, 40), (0, 1)))
+
     def test_of_few_settings(self):
         home, told = (("a", 5), ("b", 0), ("c", 0)), (
             (("a", 1), ("b", 1), ("c", 1)), (("a", 0), ("b", 3), ("c", 0)),

@@ -67,6 +67,12 @@ class Form(unittest.TestCase):
             self.assertTrue(known and node.level == 0, f"{name}: {node.module}")
             self.assertFalse([word for word in node.names if word.asname or word.name == "*"], name)
 
+    def test_imports_are_used(self):
+        for path, tree in self.trees.items():
+            taken = {word.name for node in tree.body if isinstance(node, ast.ImportFrom) for word in node.names}
+            used = {node.id for node in ast.walk(tree) if isinstance(node, ast.Name)}
+            self.assertEqual(sorted(taken - used), [], path.name)
+
     def test_no_two_files_need_each_other(self):
         needs = {path.stem: set() for path in self.files}
         for name, node in self.nodes(ast.ImportFrom):

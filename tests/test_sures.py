@@ -263,6 +263,17 @@ class GoneThrough(Case):
 
 
 class Things(Case):
+    def test_all_rows_of_steps(self):
+        steps = list(itertools.product("pqrs", (1, -1)))
+        rows = [row for many in range(5) for row in itertools.product(steps, repeat=many)]
+        for one, other in (("a", "c"), ("b", "a"), ("", "d"), ("d", "a")):
+            right = every_way(MILL, one, other)
+            self.assertEqual(sorted(row for row in rows if is_way(MILL, one, other, row)), right)
+        joined = (MILL[0], MILL[1] + (("t", "a", "", 0, 1),))
+        right = every_way(joined, "", "b")
+        for row in rows:
+            self.assertIs(is_way(joined, "", "b", row + (("p", 1),)), row + (("p", 1),) in right)
+
     def test_ways(self):
         for mill, pair in ((MILL, ("a", "c")), (MILL, ("", "d")), (EDGES, ("q", "")), (WRONG, ("b", ""))):
             right = {repr(way) for way in every_way(mill, *pair)}

@@ -3,9 +3,62 @@
 import unittest
 
 from tests.brute import every_ring, is_bad, ought_begins, ought_mill, ought_setting
-from tests.samples import BEGINS, EDGES, EMPTY, FURTHER, MILL, MILLS, ODD, SQUARE, TWO, WRONG, changed, listed, nested
+from tests.case import Case
+from tests.samples import (
+    BEGINS, EDGES, EMPTY, FURTHER, MILL, MILLS, ODD, SQUARE, TWO, WRONG, changed, has_list, listed, nested,
+)
+from tests.test_calls import CALLS
+from wheelmarks import asks, covers, lean, meets, rules, seen, sures
+from wheelmarks.errors import NoSaying, NoSetting, NoWheel, Unfit
 from wheelmarks.mills import is_begins, is_mill, is_setting
 from wheelmarks.rings import is_bad_ring, is_ring
+
+DEEP = (nested(12), [nested(11)], (nested(11), nested(11)), "x" * 1000, ((),) * 1000, (1,) * 1000)
+LOOK = ((0, "z", True),)
+# Each with all arguments but thing, and the error that these alone bring.
+STATED = (
+    (sures.is_way, (WRONG, "a", "z"), NoWheel, {"name": "z"}),
+    (sures.is_sure_ways, (WRONG, "z", "a"), NoWheel, {"name": "z"}),
+    (sures.is_sure_ways, (WRONG, "a", "a"), NoSetting, {}),
+    (sures.is_unlike, (MILL, "y", "z", 3), NoWheel, {"name": "y"}),
+    (sures.is_unlike, (WRONG, "a", "", 3), NoSetting, {}),
+    (covers.is_uncovered, (WRONG, (("k", "a", "z", 0, 2, 0),)), NoWheel, {"name": "z"}),
+    (meets.is_choice, (WRONG, ("a", "z")), NoWheel, {"name": "z"}),
+    (meets.is_choice, (WRONG, ()), NoSetting, {}),
+    (meets.is_unmet, (MILL, ("z",)), NoWheel, {"name": "z"}),
+    (meets.is_unmet, (WRONG, ("a", "b")), NoSetting, {}),
+    (rules.is_broken_at, (WRONG, (), ("z",)), NoWheel, {"name": "z"}),
+    (rules.is_broken_at, (WRONG, (), ()), NoSetting, {}),
+    (rules.is_bare_stretch, (MILL, ("z",), 2), NoWheel, {"name": "z"}),
+    (rules.is_bare_stretch, (WRONG, (), 2), NoSetting, {}),
+    (lean.is_loose_setting, (WRONG, "z"), NoSaying, {"name": "z"}),
+    (lean.is_loose_setting, (WRONG, "p"), NoSetting, {}),
+    (lean.is_lean_set, (WRONG,), NoSetting, {}),
+    (lean.is_unlike_by, (WRONG, EMPTY), Unfit, {}),
+    (seen.is_fitting, (MILL, LOOK), NoWheel, {"name": "z"}),
+    (seen.is_clash, (WRONG, LOOK), NoWheel, {"name": "z"}),
+    (seen.is_clash, (WRONG, ()), NoSetting, {}),
+    (asks.is_unlike_after, (WRONG, (("a", "z", 2),), ("a", "y", 2)), NoWheel, {"name": "z"}),
+    (asks.is_unlike_after, (WRONG, (), ("a", "b", 2)), NoSetting, {}),
+)
+
+
+class AllFunctions(Case):
+    def test_any_thing_is_answered(self):
+        judged = [(function, named) for function, named in CALLS if "thing" in named]
+        self.assertEqual(len(judged), 23)
+        for function, named in judged:
+            for thing in (*ODD, *DEEP, *changed(named["thing"])):
+                told = function(**{**named, "thing": thing})
+                self.assertIn(told, (True, False))
+                self.assertIs(type(told), bool, function.__name__)
+                if has_list(thing):
+                    self.assertIs(told, False, function.__name__)
+
+    def test_no_thing_hides_an_error(self):
+        for function, given, kind, told in STATED:
+            for thing in (*ODD, *DEEP):
+                self.raises(kind, told, function, *given, thing)
 
 
 class Things(unittest.TestCase):

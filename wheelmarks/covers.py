@@ -122,8 +122,7 @@ def needless(mill, more):
     """The set of those of more without each of which, that one alone, all is covered, too."""
     need_more(mill, more)
     covers = covering_lots(mill, more)
-    if not covers[-1]:
-        return ()
+    # Where all of more do not cover, none of these smaller lots does.
     most = len(covers) - 1
     return tuple([further[0] for place, further in enumerate(more) if covers[most - (1 << place)]])
 

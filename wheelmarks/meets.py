@@ -11,7 +11,6 @@ from wheelmarks.values import (
     is_multiple,
     is_number,
     is_row,
-    need_wheel,
     saying_names,
     tupled,
     wheel_names,

@@ -60,12 +60,11 @@ def is_way(mill, one, other, thing):
     """Whether thing is a WAY from one to other."""
     need_ends(mill, one, other)
     sayings = {saying[0]: saying for saying in mill[1]}
-    if not isinstance(thing, tuple) or len(thing) == 0:
-        return False
-    if not all([is_step(sayings, step) for step in thing]):
+    if not isinstance(thing, tuple) or not all([is_step(sayings, step) for step in thing]):
         return False
     starts = [step_ends(sayings, step)[0] for step in thing]
     goals = [step_ends(sayings, step)[1] for step in thing]
+    # Without a step there is no start, so () is none.
     if starts != [one, *goals[:-1]] or goals[-1] != other:
         return False
     return one not in goals and len(set(goals)) == len(goals)
