@@ -222,7 +222,8 @@ class GoneThrough(Case):
             mills = [mill for mill, _ in kept_mills(source, 14, 2, 2, dials)]
             mills += [(BARE[0][:2], (("p", "a", "b", 0, 2), ("q", "b", "a", 1, 2)))]
             for one, other in itertools.product(mills, repeat=2):
-                number = turn_of(one, turn_of(other))
+                # Great enough that what is told to the tick is the same up to it in truth alone.
+                number = turn_of(one, turn_of(other), 16 if 0 in dials else 1)
                 same = self.settings(one, number) == self.settings(other, number)
                 told.add(same)
                 self.assertIs(same_mills(one, other), same)
