@@ -166,3 +166,49 @@ def sign_at(wheel, begin, tick):
     """The place of this tick in the stretch in which the WHEEL shows, None if it does not show."""
     place = (tick - begin) % wheel[1]
     return place if place < wheel[2] else None
+
+
+def just(mill, names):
+    """The MILL with these of its SAYINGS alone."""
+    return mill[0], tuple(saying for saying in mill[1] if saying[0] in names)
+
+
+def fine_turn(mill, *numbers):
+    """As turn_of, and where a dial is 0 more than all lates together, so that up to it is to the tick."""
+    spread = sum(abs(saying[3]) for saying in mill[1]) if any(saying[4] == 0 for saying in mill[1]) else 0
+    turn = turn_of(mill, *numbers)
+    return turn * (2 * spread // turn + 1)
+
+
+def kept_up_to(mill, number):
+    """Whether some BEGINS up to the number keep all SAYINGS."""
+    return begins_up_to(mill, number) != []
+
+
+def lates_up_to(every, one, other, number):
+    """All lates of other behind one, up to the number."""
+    return {(begun[other] - begun[one]) % number for begun in every}
+
+
+def class_up_to(told, number):
+    """All numbers of a CLASS, up to the number; with another dial than 0 this must divide it."""
+    late, dial = told
+    if dial == 0:
+        return {late % number}
+    assert number % dial == 0 and late in range(dial)
+    return set(range(late, number, dial))
+
+
+def least_parts(parts):
+    """Those of several sets in which no other one lies."""
+    return [part for part in parts if not any(set(other) < set(part) for other in parts)]
+
+
+def greatest_parts(parts):
+    """Those of several sets that lie in no other one."""
+    return [part for part in parts if not any(set(part) < set(other) for other in parts)]
+
+
+def fewest_part(parts):
+    """The one with the fewest members, the least of several; None of none."""
+    return min(parts, key=lambda part: (len(part), part), default=None)

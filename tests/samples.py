@@ -66,6 +66,14 @@ def mixed(value, depth=0):
     return parts if depth % 2 else tuple(parts)
 
 
+def patchy(value, at=0):
+    """The value with a list in the place of every second tuple beside others."""
+    if not isinstance(value, (list, tuple)):
+        return value
+    parts = [patchy(part, place + at) for place, part in enumerate(value)]
+    return parts if at % 2 else tuple(parts)
+
+
 def has_list(value):
     if isinstance(value, tuple):
         return any(has_list(part) for part in value)

@@ -20,6 +20,8 @@ CALLED = set(
     "len range enumerate zip min max sum abs sorted reversed int str bool list tuple dict set isinstance ord repr "
     "any all divmod LookupError ValueError TypeError".split()
 )
+# Parameters and variables that hold a function of the package.
+FUNCTION_VALUED = {"counted", "finds", "judged"}
 LAZY = ("range", "zip", "enumerate", "reversed")
 ONCE = ("list", "tuple", "dict", "sorted", "sum", "any", "all", "min", "max", "enumerate", "zip")
 
@@ -126,7 +128,10 @@ class Form(unittest.TestCase):
         own = {node.name for _, node in self.nodes(ast.FunctionDef, ast.ClassDef)}
         for name, node in self.nodes(ast.Call):
             if any(isinstance(value, ast.Starred) for value in node.args):
-                self.assertIn(node.func.id, own | {"max", "min", "zip"}, f"{name}: {node.lineno}")
+                called = node.func.attr if isinstance(node.func, ast.Attribute) else node.func.id
+                self.assertIn(called, own | FUNCTION_VALUED | {"max", "min", "zip"}, f"{name}: {node.lineno}")
+                starred = [value.value for value in node.args if isinstance(value, ast.Starred)]
+                self.assertTrue(all(isinstance(value, ast.Name) for value in starred), f"{name}: {node.lineno}")
 
     def test_locals_are_no_imports(self):
         for path, tree in self.trees.items():
@@ -152,7 +157,7 @@ class Form(unittest.TestCase):
             if isinstance(node.func, ast.Attribute):
                 self.assertIn(node.func.attr, METHODS | own, f"{name}: {node.lineno}")
             else:
-                self.assertIn(node.func.id, CALLED | own | imported, f"{name}: {node.lineno}")
+                self.assertIn(node.func.id, CALLED | FUNCTION_VALUED | own | imported, f"{name}: {node.lineno}")
 
 
 if __name__ == "__main__":

@@ -3,13 +3,13 @@
 import unittest
 
 from tests.brute import every_ring, is_bad, ought_begins, ought_mill, ought_setting
+from tests.calls import CALLS, SHEETS
 from tests.case import Case
 from tests.samples import (
     BEGINS, EDGES, EMPTY, FURTHER, MILL, MILLS, ODD, SQUARE, TWO, WRONG, changed, has_list, listed, nested,
 )
-from tests.test_calls import CALLS
-from wheelmarks import asks, covers, lean, meets, rules, seen, sures
-from wheelmarks.errors import NoSaying, NoSetting, NoWheel, Unfit
+from wheelmarks import asks, bridges, covers, hands, judge, lean, meets, rules, seen, sheets, sures, wrong
+from wheelmarks.errors import NoReader, NoSaying, NoSetting, NoWheel, NoWord, Twice, Unfit
 from wheelmarks.mills import is_begins, is_mill, is_setting
 from wheelmarks.rings import is_bad_ring, is_ring
 
@@ -40,13 +40,27 @@ STATED = (
     (seen.is_clash, (WRONG, ()), NoSetting, {}),
     (asks.is_unlike_after, (WRONG, (("a", "z", 2),), ("a", "y", 2)), NoWheel, {"name": "z"}),
     (asks.is_unlike_after, (WRONG, (), ("a", "b", 2)), NoSetting, {}),
+    (wrong.is_twin_paper, (WRONG, "y", "z"), NoSaying, {"name": "y"}),
+    (wrong.is_twin_paper, (WRONG, "p", "p"), NoSetting, {}),
+    (bridges.is_clash_ring, (MILL, WRONG), NoSetting, {}),
+    (bridges.is_clash_ring, (MILL, ((("c", 5, 1),), ())), Twice, {"name": "c"}),
+    (hands.is_crowd_paper, (WRONG, ("a", "z")), NoWheel, {"name": "z"}),
+    (hands.is_crowd_paper, (WRONG, ()), NoSetting, {}),
+    (hands.is_sharing, (WRONG,), NoSetting, {}),
+    (sheets.is_paper_for, (WRONG, SHEETS, ("eve",), "z", "a", 2), NoWheel, {"name": "z"}),
+    (sheets.is_paper_for, (WRONG, SHEETS, ("eve",), "c", "a", 2), NoReader, {"name": "eve"}),
+    (sheets.is_paper_for, (WRONG, SHEETS, (), "a", "a", 2), NoSetting, {}),
+    (judge.is_paper, (("Kept", MILL),), NoWord, {"word": "Kept"}),
+    (judge.is_paper, (("rule", WRONG, (), ("z",)),), NoWheel, {"name": "z"}),
+    (judge.is_paper, (("hands", WRONG, 1),), NoSetting, {}),
+    (judge.is_paper, (("seen", MILL, ((0, "a", False), (0, "a", True)), "a", 0),), Unfit, {}),
 )
 
 
 class AllFunctions(Case):
     def test_any_thing_is_answered(self):
         judged = [(function, named) for function, named in CALLS if "thing" in named]
-        self.assertEqual(len(judged), 23)
+        self.assertEqual(len(judged), 31)
         for function, named in judged:
             for thing in (*ODD, *DEEP, *changed(named["thing"])):
                 told = function(**{**named, "thing": thing})

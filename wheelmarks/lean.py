@@ -7,12 +7,16 @@ from wheelmarks.errors import Unfit
 from wheelmarks.lates import need_table, sure_table
 from wheelmarks.lots import fewest_lot, least_lots, members
 from wheelmarks.mills import begin_table, how_far_off, is_setting
-from wheelmarks.values import ascends, is_multiple, saying_called, saying_names, tupled, wheel_names
-
-
-def left_without(mill, name):
-    """The MILL without this SAYING."""
-    return (mill[0], [saying for saying in mill[1] if saying[0] != name])
+from wheelmarks.values import (
+    all_but,
+    is_multiple,
+    is_set_of,
+    just_these,
+    saying_called,
+    saying_names,
+    tupled,
+    wheel_names,
+)
 
 
 def tells(table, saying):
@@ -23,7 +27,7 @@ def tells(table, saying):
 
 
 def is_needless(mill, saying):
-    return tells(sure_table(left_without(mill, saying[0])), saying)
+    return tells(sure_table(all_but(mill, [saying[0]])), saying)
 
 
 def needless_sayings(mill):
@@ -41,14 +45,14 @@ def loose_setting(mill, name):
     """A SETTING without this SAYING which does not keep it, None if it is needless."""
     saying = saying_called(mill, name)
     need_table(mill)
-    return uncovered(left_without(mill, name), [(*saying, 0)])
+    return uncovered(all_but(mill, [name]), [(*saying, 0)])
 
 
 def is_loose_setting(mill, name, thing):
     """Whether thing is a SETTING without this SAYING which does not keep it."""
     saying = saying_called(mill, name)
     need_table(mill)
-    if not is_setting(left_without(mill, name), thing):
+    if not is_setting(all_but(mill, [name]), thing):
         return False
     return how_far_off(saying, begin_table(thing)) != 0
 
@@ -74,11 +78,10 @@ def fewest_sayings(mill):
 def is_lean_set(mill, thing):
     """Whether thing is a set of SAYINGS that are enough, and no part of which is."""
     need_table(mill)
-    names = saying_names(mill)
-    if not isinstance(thing, tuple) or not all([isinstance(name, str) and name in names for name in thing]):
+    if not is_set_of(thing, saying_names(mill)):
         return False
-    chosen = [saying for saying in mill[1] if saying[0] in thing]
-    if not ascends(thing) or not are_enough(mill, chosen):
+    chosen = just_these(mill, thing)[1]
+    if not are_enough(mill, chosen):
         return False
     return not any([
         are_enough(mill, [saying for saying in chosen if saying[0] != name]) for name in thing
@@ -102,7 +105,7 @@ def needed_part(dial, known):
 
 
 def least_dial(mill, saying):
-    table = sure_table(left_without(mill, saying[0]))
+    table = sure_table(all_but(mill, [saying[0]]))
     return needed_part(saying[4], table[saying[1], saying[2]][1])
 
 

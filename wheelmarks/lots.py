@@ -8,6 +8,16 @@ def members(things, lot):
     return tuple([thing for place, thing in enumerate(things) if lot >> place & 1 == 1])
 
 
+def all_lots(things):
+    """The list of all sets of some of these things, the place of each being its lot."""
+    return [members(things, lot) for lot in range(1 << len(things))]
+
+
+def pairs_among(things):
+    """The pairs of two of these things, the one ahead first."""
+    return [(one, other) for place, one in enumerate(things) for other in things[place + 1:]]
+
+
 def least_lots(things, does):
     """The ascending list of the sets of things that do, and no part of which does.
 

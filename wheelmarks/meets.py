@@ -5,7 +5,7 @@ from math import gcd
 from wheelmarks.covers import is_covered, uncovered
 from wheelmarks.errors import Twice
 from wheelmarks.lates import class_of, common_class, need_table
-from wheelmarks.lots import greatest_lots_of, members
+from wheelmarks.lots import greatest_lots_of, members, pairs_among
 from wheelmarks.mills import begin_table, is_setting
 from wheelmarks.values import (
     is_multiple,
@@ -115,22 +115,18 @@ def as_further(wheel, other):
     return ("meet", wheel[0], other[0], 1 - other[2], gcd(wheel[1], other[1]), room)
 
 
-def pairs_of(wheels):
-    return [(wheel, other) for at, wheel in enumerate(wheels) for other in wheels[at + 1:]]
-
-
 def surely_meet(mill, some):
     """Whether in each SETTING there is a tick at which these WHEELS show together."""
     wheels = wheels_called(mill, some)
     need_table(mill)
-    return all([is_covered(mill, (as_further(one, other),)) for one, other in pairs_of(wheels)])
+    return all([is_covered(mill, (as_further(one, other),)) for one, other in pairs_among(wheels)])
 
 
 def unmet(mill, some):
     """A SETTING in which these WHEELS never show together, None if there is none."""
     wheels = wheels_called(mill, some)
     need_table(mill)
-    for one, other in pairs_of(wheels):
+    for one, other in pairs_among(wheels):
         setting = uncovered(mill, (as_further(one, other),))
         if setting is not None:
             return setting
@@ -144,17 +140,19 @@ def is_unmet(mill, some, thing):
     return is_setting(mill, thing) and common_ticks(wheels, thing) == []
 
 
+def meeting_lots(table, wheels):
+    """For each lot of these WHEELS whether they show together at some tick of some SETTING."""
+    bits = [1 << place for place in range(len(wheels))]
+    does = []
+    for lot in range(1 << len(wheels)):
+        parts = [does[lot ^ bit] for bit in bits if lot & bit != 0]
+        does.append(all(parts) and places_that_meet(table, members(wheels, lot)) is not None)
+    return does
+
+
 def greatest_lots(mill):
     """The ascending list of the sets of WHEELS that can meet, and with no WHEEL more."""
-    table = need_table(mill)
-    names = wheel_names(mill)
-    bits = [1 << place for place in range(len(names))]
-    does = []
-    for lot in range(1 << len(names)):
-        parts = [does[lot ^ bit] for bit in bits if lot & bit != 0]
-        wheels = wheels_called(mill, members(names, lot))
-        does.append(all(parts) and places_that_meet(table, wheels) is not None)
-    return greatest_lots_of(names, does)
+    return greatest_lots_of(wheel_names(mill), meeting_lots(need_table(mill), mill[0]))
 
 
 def common_ticks(wheels, setting):

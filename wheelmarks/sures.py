@@ -4,7 +4,7 @@ from math import lcm
 
 from wheelmarks.lates import need_table
 from wheelmarks.laying import lay_late
-from wheelmarks.lots import fewest_to_reach
+from wheelmarks.lots import fewest_to_reach, pairs_among
 from wheelmarks.mills import begin_table, is_setting
 from wheelmarks.rings import is_step, ring_divisor, step_ends, steps_away
 from wheelmarks.values import ascends, end_names, is_multiple, is_row, need_end
@@ -21,15 +21,15 @@ def sure_late(mill, one, other):
     return need_table(mill)[one, other]
 
 
+def sure_among(table, ends):
+    """The quadruples (one, other, late, dial) of what is sure of these ends up to more than 1."""
+    found = [(one, other, *table[one, other]) for one, other in pairs_among(ends)]
+    return tuple([told for told in found if told[3] != 1])
+
+
 def sure_lates(mill):
     """The quadruples (one, other, late, dial) of all that is sure up to more than 1."""
-    table = need_table(mill)
-    found = []
-    for one, other in sorted(table):
-        late, dial = table[one, other]
-        if one < other and dial != 1:
-            found.append((one, other, late, dial))
-    return tuple(found)
+    return sure_among(need_table(mill), end_names(mill))
 
 
 def is_sure(mill, one, other, late, dial):

@@ -33,6 +33,13 @@ def ascends(things):
     return all([things[at] < things[at + 1] for at in range(len(things) - 1)])
 
 
+def is_set_of(thing, names):
+    """Whether thing is a set, maybe (), of some of these names."""
+    if not isinstance(thing, tuple):
+        return False
+    return all([isinstance(name, str) and name in names for name in thing]) and ascends(thing)
+
+
 def is_multiple(number, divisor):
     """Whether the divisor, from 0 on, divides the number."""
     # 0 alone is a multiple of 0, and a remainder by 0 is an error.
@@ -71,6 +78,16 @@ def need_end(mill, name):
     """As need_wheel, but that the crank is let, too."""
     if name not in end_names(mill):
         raise NoWheel(name)
+
+
+def just_these(mill, names):
+    """The MILL with just those of its SAYINGS that have one of these names."""
+    return (mill[0], [saying for saying in mill[1] if saying[0] in names])
+
+
+def all_but(mill, names):
+    """The MILL without the SAYINGS that have one of these names."""
+    return (mill[0], [saying for saying in mill[1] if saying[0] not in names])
 
 
 def saying_called(mill, name):
