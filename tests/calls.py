@@ -1,8 +1,10 @@
 """One call of each function of the interface, some that are refused, and the names of all arguments."""
 
 from tests.samples import BEGINS, EDGES, FURTHER, GREAT, MILL, SQUARE, TWO, WRONG
-from wheelmarks import asks, bridges, covers, desk, hands, judge, lean, meets, mills, rings, rules, seen, settings, sheets
-from wheelmarks import sures, texts, wrong
+from wheelmarks import (
+    asks, bridges, covers, desk, hands, judge, lean, meets, mills, rings, rules, seen, settings, sheets, sures, texts,
+    wrong,
+)
 from wheelmarks.errors import (
     BadLine, BadText, NoNumber, NoPaper, NoReader, NoSaying, NoSetting, NoWheel, NoWord, Twice, Unfit,
 )

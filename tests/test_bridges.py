@@ -40,8 +40,10 @@ def some_begins(source, names):
 def pairs_of_mills(seed, many):
     """Pairs of MILLS that have a SETTING each, with WHEELS in common or without."""
     source = random.Random(seed)
-    for names, others, dials in (("abc", "bcd", (2, 3)), ("ab", "ab", (2, 4)), ("ab", "cd", (2, 4)), ("ab", "abc", (0, 2)),
-                                 ("abc", "c", (2, 4)), ("a", "", (3,))):
+    for names, others, dials in (
+        ("abc", "bcd", (2, 3)), ("ab", "ab", (2, 4)), ("ab", "cd", (2, 4)), ("ab", "abc", (0, 2)), ("abc", "c", (2, 4)),
+        ("a", "", (3,)),
+    ):
         for _ in range(many):
             begins = some_begins(source, set(names + others))
             others_begins = begins if source.randrange(3) else some_begins(source, set(names + others))
@@ -234,7 +236,9 @@ class GoneThrough(Case):
 
     def fine_mills(self, seed, many):
         source = random.Random(seed)
-        for names, marks, dials in (("abcd", "klmn", (2, 3)), ("abc", "klmn", (2, 4)), ("ab", "kl", (0, 4)), ("abc", "", (1,))):
+        for names, marks, dials in (
+            ("abcd", "klmn", (2, 3)), ("abc", "klmn", (2, 4)), ("ab", "kl", (0, 4)), ("abc", "", (1,)),
+        ):
             for _ in range(many):
                 yield told_mill(source, names, marks, dials, some_begins(source, names))
 
@@ -279,8 +283,8 @@ class GoneThrough(Case):
         """What is sure of two WHEELS of unlike sets is so by some and the crank."""
         for first, second in itertools.permutations(lots, 2):
             for near, far in itertools.product(first, second):
-                ways = [math.gcd(sure_late(mill, near, here)[1], sure_late(mill, here, there)[1], sure_late(mill, there, far)[1])
-                        for here in ("", *some) for there in ("", *some)]
+                roads = [(near, here, there, far) for here in ("", *some) for there in ("", *some)]
+                ways = [math.gcd(*[sure_late(mill, *pair)[1] for pair in zip(road, road[1:])]) for road in roads]
                 self.assertEqual(math.lcm(*ways), sure_late(mill, near, far)[1])
 
     def test_bridges(self):

@@ -11,6 +11,12 @@ from tests.samples import EMPTY, listed, has_list, mixed, patchy
 from wheelmarks import board, mills, rings
 
 
+TELL_MILLS = (
+    "with_wheel without_wheel with_saying without_saying turned_saying tidied shifted renamed meet_mill least_dials "
+    "left_by joined mill_by put_together mill_from"
+).split()
+
+
 def in_lists(named, change):
     """The arguments changed, but for thing, in which a list is no tuple."""
     return {name: value if name == "thing" else change(value) for name, value in named.items()}
@@ -71,9 +77,7 @@ class Calls(unittest.TestCase):
 
     def test_told_mills_are_mills(self):
         for function, named in CALLS:
-            if function.__name__ in ("with_wheel", "without_wheel", "with_saying", "without_saying", "turned_saying",
-                                     "tidied", "shifted", "renamed", "meet_mill", "least_dials", "left_by", "joined", "mill_by",
-                                     "put_together", "mill_from"):
+            if function.__name__ in TELL_MILLS:
                 self.assertIs(mills.is_mill(function(**named)), True)
 
     def test_errors_with_lists_too(self):

@@ -26,6 +26,14 @@ LAZY = ("range", "zip", "enumerate", "reversed")
 ONCE = ("list", "tuple", "dict", "sorted", "sum", "any", "all", "min", "max", "enumerate", "zip")
 
 
+DOCUMENTED = (ast.Module, ast.FunctionDef, ast.ClassDef)
+DOUBLE = ("__init__", "__len__", "__contains__", "__getitem__", "__iter__", "__eq__")
+NO_WORDS = set(
+    "type typing enum Enum Flag Generic Protocol ABC namedtuple NamedTuple TypedDict dataclass overload register mro elements "
+    "open input law exit help compile dir vars globals locals eval exec id os sys format chr __class__ __name__".split()
+)
+
+
 def bound_names(tree):
     for node in ast.walk(tree):
         if isinstance(node, (ast.FunctionDef, ast.ClassDef)) and not node.name.startswith("__"):
@@ -111,7 +119,7 @@ class Form(unittest.TestCase):
             for node in ast.walk(tree):
                 if isinstance(node, ast.Assign) and isinstance(node.targets[0], ast.Name):
                     fit.add(id(node.value))
-                elif isinstance(node, ast.Call) and isinstance(node.func, ast.Name) and node.func.id in ("sorted", "len"):
+                elif isinstance(node, ast.Call) and getattr(node.func, "id", "") in ("sorted", "len"):
                     fit.update(id(value) for value in node.args)
             for node in ast.walk(tree):
                 made = isinstance(node, ast.Call) and isinstance(node.func, ast.Name) and node.func.id == "set"
@@ -149,6 +157,39 @@ class Form(unittest.TestCase):
     def test_names(self):
         for path, tree in self.trees.items():
             self.assertEqual([word for word in bound_names(tree) if word in vars(builtins)], [], path.name)
+
+    def test_words(self):
+        """No word that has no place in a file stands in a name or a string; comments and docstrings are free."""
+        for path, tree in self.trees.items():
+            told = {id(node.body[0].value) for node in ast.walk(tree) if isinstance(node, DOCUMENTED) and ast.get_docstring(node)}
+            for node in ast.walk(tree):
+                words = [getattr(node, field, None) for field in ("id", "arg", "attr", "name")]
+                if isinstance(node, ast.Constant) and isinstance(node.value, str) and id(node) not in told:
+                    self.assertNotIn("%", node.value, f"{path.name}: {node.lineno}")
+                    words.extend(node.value.split())
+                self.assertFalse(NO_WORDS & set(words), f"{path.name}: {getattr(node, 'lineno', 0)}")
+
+    def test_is(self):
+        for name, node in self.nodes(ast.Compare):
+            for sign, other in zip(node.ops, node.comparators):
+                if isinstance(sign, (ast.Is, ast.IsNot)):
+                    self.assertIn(getattr(other, "value", 0), (None, True, False), f"{name}: {node.lineno}")
+
+    def test_tables_hold_no_lists(self):
+        for path, tree in self.trees.items():
+            for node in tree.body:
+                if isinstance(node, ast.Assign):
+                    inner = [part for part in ast.walk(node.value) if part is not node.value]
+                    self.assertFalse([part for part in inner if isinstance(part, (ast.List, ast.Dict, ast.Call))], path.name)
+                    self.assertTrue(isinstance(node.targets[0], ast.Name) and len(node.targets) == 1, path.name)
+
+    def test_classes(self):
+        for name, node in self.nodes(ast.ClassDef):
+            self.assertEqual((node.decorator_list, node.keywords), ([], []), name)
+            for part in node.body[1:]:
+                self.assertIsInstance(part, ast.FunctionDef, f"{name}: {node.name}")
+                double = part.name.startswith("__")
+                self.assertTrue(not double or part.name in DOUBLE, f"{name}: {part.name}")
 
     def test_calls(self):
         own = {node.name for _, node in self.nodes(ast.FunctionDef, ast.ClassDef)}

@@ -48,12 +48,22 @@ def least_apart(names, together):
     )])
 
 
+def is_within(part, lots):
+    """Whether all of part are in one of these."""
+    return any(set(part) <= set(lot) for lot in lots)
+
+
+def pairs_within(mill, lots):
+    return [pair for pair in itertools.combinations(names_of(mill), 2) if is_within(pair, lots)]
+
+
 class Errors(Case):
     def test_no_setting(self):
         for function, *more in (
             (hands_now, (("a", 0), ("b", 0), ("c", 0))), (most_at_once,), (crowds, 2), (crowds, -1), (crowd_paper, ()),
             (crowd_paper, ("a",)), (is_crowd_paper, ("a",), None), (hands_for_ever,), (sharing,), (is_sharing, None),
-            (shared_now, (("a", 0), ("b", 0), ("c", 0))), (more_for, (), 3), (more_for, OFFER, -1), (more_to_share, OFFER, 9),
+            (shared_now, (("a", 0), ("b", 0), ("c", 0))), (more_for, (), 3), (more_for, OFFER, -1),
+            (more_to_share, OFFER, 9),
         ):
             self.raises(NoSetting, {}, function, WRONG, *more)
 
@@ -70,7 +80,8 @@ class Errors(Case):
 
 class Edges(Case):
     def test_no_wheels(self):
-        self.assertEqual((hands_now(EMPTY, ()), most_at_once(EMPTY), crowds(EMPTY, 0), crowds(EMPTY, 1)), (0, 0, [()], []))
+        self.assertEqual((hands_now(EMPTY, ()), most_at_once(EMPTY)), (0, 0))
+        self.assertEqual((crowds(EMPTY, 0), crowds(EMPTY, 1)), ([()], []))
         self.assertEqual((hands_for_ever(EMPTY), sharing(EMPTY), shared_now(EMPTY, ())), (0, (), 0))
         self.assertEqual((is_sharing(EMPTY, ()), is_sharing(EMPTY, ((),))), (True, False))
         self.assertEqual((more_for(EMPTY, (), 0), more_for(EMPTY, (), -1), more_to_share(EMPTY, (), 0)), ((), None, ()))
@@ -79,7 +90,8 @@ class Edges(Case):
     def test_many(self):
         self.assertEqual([crowds(MILL, many) for many in (-GREAT, -1, 0, 4, GREAT)], [[], [], [()], [], []])
         self.assertEqual(crowds(MILL, 1), [("a",), ("b",), ("c",)])
-        self.assertEqual([more_for(MILL, OFFER, many) for many in (-1, 0, 1, 2, 3, GREAT)], [None, None, None, (), (), ()])
+        told = [more_for(MILL, OFFER, many) for many in (-1, 0, 1, 2, 3, GREAT)]
+        self.assertEqual(told, [None, None, None, (), (), ()])
         self.assertEqual([more_to_share(MILL, (), many) for many in (-1, 0, 1, 2)], [None, None, None, ()])
 
     def test_no_some(self):
@@ -104,6 +116,16 @@ class Edges(Case):
         self.assertEqual((more_for(held, offers, 2), more_to_share(held, offers, 2)), ((), ()))
         apart = (("y", "b", "a", 2, 4), ("z", "b", "a", 6, 0))
         self.assertEqual((more_for(held, apart, 1), more_to_share(held, apart[1:], 1)), (("y",), ("z",)))
+
+    def test_the_least_of_several_sets(self):
+        """Two pairs of offers do, each on a way of its own; w comes ahead of x, though y comes ahead of z."""
+        mill = ((("a", 4, 1), ("b", 4, 1), ("c", 1, 1)), ())
+        offers = (("w", "a", "c", 0, 4), ("x", "", "a", 0, 2), ("y", "", "b", 1, 2), ("z", "c", "b", 1, 2))
+        for function in (more_for, more_to_share):
+            self.assertEqual(function(mill, offers, 2), ("w", "z"))
+            self.assertEqual(function(mill, offers[1:], 2), ("x", "y"))
+            self.assertEqual(function(mill, offers[::3], 2), ("w", "z"))
+            self.assertIsNone(function(mill, offers[:2], 2))
 
     def test_sharings_with_more_sets(self):
         sets = ((("a", "c"), ("b",)), (("a",), ("b",), ("c",)), (("a",), ("b", "c")))
@@ -135,7 +157,8 @@ class Edges(Case):
         for many in (1, told - 1):
             chosen = more_for(mill, offers, many)
             if chosen is not None:
-                self.assertLessEqual(most_at_once(with_offers(mill, [offer for offer in offers if offer[0] in chosen])), many)
+                own = with_offers(mill, [offer for offer in offers if offer[0] in chosen])
+                self.assertLessEqual(most_at_once(own), many)
         self.assertIsNone(more_to_share(mill, offers, 0))
 
 
@@ -149,8 +172,13 @@ class GoneThrough(Case):
             (3, 5, (3, 6), ((3, 1), (3, 2))), (3, 4, (2, 4), ((4, 1), (2, 1))), (2, 3, (4,), ((4, 1), (4, 2))),
         ):
             for mill, setting in kept_mills(source, many, wheels, sayings, dials, rounds):
-                number = turn_of(mill, *[wheel[1] for wheel in mill[0]]) // (1 if any(saying[4] == 0 for saying in mill[1]) else 2)
+                number = self.turn(mill)
                 yield mill, setting, number, self.moments(mill, number)
+
+    def turn(self, mill):
+        """What all dials and rounds divide; with a dial 0 twice that."""
+        number = turn_of(mill, *[wheel[1] for wheel in mill[0]])
+        return number // 2 if all(saying[4] for saying in mill[1]) else number
 
     def shown(self, mill, begun, tick):
         return frozenset(wheel[0] for wheel in mill[0] if sign_at(wheel, begun[wheel[0]], tick) is not None)
@@ -170,7 +198,7 @@ class GoneThrough(Case):
             most = max(len(shown) for shown in moments)
             self.assertEqual(most_at_once(mill), most)
             for many in range(-1, len(mill[0]) + 2):
-                right = [part for part in parts_of(names_of(mill)) if len(part) == many and any(set(part) <= shown for shown in moments)]
+                right = [part for part in parts_of(names_of(mill)) if len(part) == many and is_within(part, moments)]
                 self.assertEqual(crowds(mill, many), right)
             for part in parts_of(names_of(mill)):
                 thing = crowd_paper(mill, part)
@@ -185,7 +213,7 @@ class GoneThrough(Case):
     def test_sharings(self):
         told = set()
         for mill, _, number, moments in self.mills(132, 7):
-            together = [pair for pair in itertools.combinations(names_of(mill), 2) if any(set(pair) <= shown for shown in moments)]
+            together = pairs_within(mill, moments)
             right = least_apart(tuple(names_of(mill)), together)
             self.assertEqual((sharing(mill), hands_for_ever(mill)), (right, len(right)))
             for parts in ways_to_part(tuple(names_of(mill))):
@@ -200,8 +228,8 @@ class GoneThrough(Case):
             begun = {"": 0, **dict(setting)}
             shown = [self.shown(mill, begun, tick) for tick in range(number)]
             self.assertEqual(hands_now(mill, setting), max(len(part) for part in shown))
-            together = [pair for pair in itertools.combinations(names_of(mill), 2) if any(set(pair) <= part for part in shown)]
-            self.assertEqual(shared_now(mill, setting), len(least_apart(tuple(names_of(mill)), together)))
+            right = least_apart(tuple(names_of(mill)), pairs_within(mill, shown))
+            self.assertEqual(shared_now(mill, setting), len(right))
             told.add((hands_now(mill, setting) < most_at_once(mill), shared_now(mill, setting) < hands_for_ever(mill)))
         self.assertTrue({(False, False), (True, True)} <= told, told)
 
@@ -212,12 +240,11 @@ class GoneThrough(Case):
         mills = [mill for wheels in (2, 3) for mill, _ in kept_mills(source, 9, wheels, wheels - 2, (2, 4), rounds)]
         for mill in mills:
             ends = ["", *names_of(mill)]
-            offers = tuple((name, *source.sample(ends, 2), source.randrange(4), source.choice((2, 4))) for name in "xyz")
+            offers = tuple(
+                (name, *source.sample(ends, 2), source.randrange(4), source.choice((2, 4))) for name in "xyz"
+            )
             every = {part: with_offers(mill, part) for part in parts_of(offers)}
-            moments = {}
-            for part, own in every.items():
-                number = turn_of(own, *[wheel[1] for wheel in own[0]])
-                moments[part] = self.moments(own, number // 2 if all(saying[4] for saying in own[1]) else number)
+            moments = {part: self.moments(own, self.turn(own)) for part, own in every.items()}
             for many in range(-1, len(mill[0]) + 1):
                 does = [part for part in every if moments[part] and max(len(shown) for shown in moments[part]) <= many]
                 right = fewest_part([tuple(offer[0] for offer in part) for part in does])
@@ -229,8 +256,7 @@ class GoneThrough(Case):
         self.assertTrue({(None, True), (0, True), (1, True), (2, True)} <= told, told)
 
     def for_ever(self, mill, moments):
-        together = [pair for pair in itertools.combinations(names_of(mill), 2) if any(set(pair) <= shown for shown in moments)]
-        return len(least_apart(tuple(names_of(mill)), together))
+        return len(least_apart(tuple(names_of(mill)), pairs_within(mill, moments)))
 
     def test_papers(self):
         for mill, _, number, _ in self.mills(136, 2):

@@ -59,6 +59,8 @@ def with_mill(promise, mill):
 class Errors(Case):
     NEWS = ((stands,), (paper,), (is_paper, BEGINS), (without, ("z",)), (narrowed_to, "z", 5), (leans_on,), (grounds,))
 
+    JUDGED = ((stands,), (paper,), (is_paper, None), (is_paper, (BEGINS, 0)), (leans_on,), (grounds,))
+
     def test_no_word_first(self):
         for word in ("Kept", "", "kept ", "is_sure", "mill"):
             for given in ((WRONG,), (), (MILL, "x", "y", 0, 0)):
@@ -89,24 +91,27 @@ class Errors(Case):
     def test_what_the_functions_raise(self):
         sheet = (("ann", ("p",)),)
         faults = (
-            (("sure", MILL, "x", "y", 0, 2), NoWheel, {"name": "x"}), (("sure", MILL, "a", "y", 0, 2), NoWheel, {"name": "y"}),
+            (("sure", MILL, "x", "y", 0, 2), NoWheel, {"name": "x"}),
+            (("sure", MILL, "a", "y", 0, 2), NoWheel, {"name": "y"}),
             (("needless", WRONG, "z"), NoSaying, {"name": "z"}),
             (("covered", WRONG, (("k", "a", "z", 0, 2, 0),)), NoWheel, {"name": "z"}),
             (("apart", WRONG, ("", "z")), NoWheel, {"name": ""}), (("meet", WRONG, ("a", "z")), NoWheel, {"name": "z"}),
-            (("rule", WRONG, ("y",), ("x",)), NoWheel, {"name": "y"}), (("rule", WRONG, (), ("x",)), NoWheel, {"name": "x"}),
+            (("rule", WRONG, ("y",), ("x",)), NoWheel, {"name": "y"}),
+            (("rule", WRONG, (), ("x",)), NoWheel, {"name": "x"}),
             (("clash", WRONG, ((0, "z", True),)), NoWheel, {"name": "z"}),
             (("seen", WRONG, ((0, "z", True),), "y", 0), NoWheel, {"name": "z"}),
             (("seen", WRONG, (), "y", 0), NoWheel, {"name": "y"}),
             (("seen", MILL, ((0, "a", True), (0, "a", False)), "b", 0), Unfit, {}),
             (("told", WRONG, (("a", "z", 2),), ("y", "a", 2)), NoWheel, {"name": "z"}),
             (("told", WRONG, (), ("y", "a", 2)), NoWheel, {"name": "y"}),
-            (("found", WRONG, "a", "b"), NoSaying, {"name": "a"}), (("found", WRONG, "p", "b"), NoSaying, {"name": "b"}),
+            (("found", WRONG, "a", "b"), NoSaying, {"name": "a"}),
+            (("found", WRONG, "p", "b"), NoSaying, {"name": "b"}),
             (("agree", MILL, ((("a", 5, 1),), ())), Twice, {"name": "a"}),
             (("band", WRONG, sheet, ("bob",), "x", "a", 2), NoWheel, {"name": "x"}),
             (("band", WRONG, sheet, ("bob",), "a", "", 2), NoReader, {"name": "bob"}),
         )
         for promise, error, shown in faults:
-            for function, *more in ((stands,), (paper,), (is_paper, None), (is_paper, BEGINS), (leans_on,), (grounds,)):
+            for function, *more in self.JUDGED:
                 if promise[0] not in WHOLE or function not in (leans_on, grounds):
                     self.raises(error, shown, function, promise, *more)
 
@@ -116,7 +121,7 @@ class Errors(Case):
                 promise = promise_of(word, mill)
                 if word == "seen":
                     promise = (word, mill, ((0, "a", True), (0, "a", False)), "b", 0)
-                for function, *more in ((stands,), (paper,), (is_paper, None), (is_paper, ((), 0)), (leans_on,), (grounds,)):
+                for function, *more in self.JUDGED:
                     if word not in FREE and not (word in WHOLE and function in (leans_on, grounds)):
                         self.raises(NoSetting, {}, function, promise, *more)
         self.raises(NoSetting, {}, stands, ("agree", MILL, WRONG))
@@ -131,9 +136,11 @@ class Errors(Case):
 class Edges(Case):
     def test_mills_without_a_setting(self):
         self.assertEqual([stands(promise_of(word, WRONG)) for word in FREE], [False, True, True])
-        self.assertEqual((leans_on(("kept", WRONG)), grounds(("kept", WRONG[:1] + (WRONG[1][:3],)))), (("s", "t"), [()]))
-        self.assertEqual((leans_on(("covered", SQUARE, ())), grounds(("covered", SQUARE, ()))), (("p", "q", "r", "s"), [("p", "q", "r", "s")]))
-        self.assertEqual((leans_on(("clash", WRONG, ())), grounds(("clash", WRONG, ()))), (("p", "q", "r"), [("p", "q", "r")]))
+        for promise, leans, ground in (
+            (("kept", WRONG), ("s", "t"), ()), (("covered", SQUARE, ()), ("p", "q", "r", "s"), ("p", "q", "r", "s")),
+            (("clash", WRONG, ()), ("p", "q", "r"), ("p", "q", "r")),
+        ):
+            self.assertEqual((leans_on(promise), grounds(promise)), (leans, [ground]))
         self.assertIs(is_paper(("covered", WRONG, ()), BEGINS), False)
 
     def test_one_is_other(self):
@@ -152,8 +159,8 @@ class Edges(Case):
             self.assertIs(is_paper(("found", MILL, name, name), (1, -1)), False)
 
     def test_hands(self):
-        for number, right in ((-GREAT, False), (-1, False), (0, False), (1, False), (2, True), (3, True), (GREAT, True)):
-            promise = ("hands", MILL, number)
+        for number in (-GREAT, -1, 0, 1, 2, 3, GREAT):
+            promise, right = ("hands", MILL, number), number >= 2
             self.assertIs(stands(promise), right)
             self.assertIs(right or is_paper(promise, paper(promise)), True)
         self.assertEqual([stands(("hands", EMPTY, number)) for number in (-1, 0)], [False, True])
@@ -162,13 +169,15 @@ class Edges(Case):
     def test_some_is_nobody(self):
         self.assertEqual([stands((word, MILL, ())) for word in ("apart", "meet")], [False, True])
         self.assertIs(is_paper(("apart", MILL, ()), (BEGINS, -GREAT)), True)
-        self.assertEqual([stands(("rule", MILL, (), ())), stands(("clash", MILL, ())), stands(("covered", MILL, ()))], [False] * 3)
+        for promise in (("rule", MILL, (), ()), ("clash", MILL, ()), ("covered", MILL, ())):
+            self.assertIs(stands(promise), False)
 
     def test_eight_wheels(self):
         wheels = tuple((name, GREAT, 1) for name in "abcdefgh")
         mill = (wheels, (("k", "a", "h", 1, 2),))
-        self.assertEqual((stands(("apart", mill, ("a", "h"))), stands(("apart", mill, tuple("abcdefg")))), (True, False))
-        self.assertIs(is_paper(("apart", mill, tuple("abcdefg")), paper(("apart", mill, tuple("abcdefg")))), True)
+        promise = ("apart", mill, tuple("abcdefg"))
+        self.assertEqual((stands(("apart", mill, ("a", "h"))), stands(promise)), (True, False))
+        self.assertIs(is_paper(promise, paper(promise)), True)
 
     def test_without(self):
         promise = ("covered", listed(MILL), listed(LONE))
@@ -183,8 +192,9 @@ class Edges(Case):
             if word == "agree":
                 continue
             for dial in (4, 12, 4 * GREAT, 0):
+                own = (MILL[0], (MILL[1][0], ("q", "b", "c", 2, dial), MILL[1][2]))
                 told = narrowed_to(listed(promise_of(word)), "q", dial)
-                self.assertEqual(told, with_mill(promise_of(word), (MILL[0], (MILL[1][0], ("q", "b", "c", 2, dial), MILL[1][2]))))
+                self.assertEqual(told, with_mill(promise_of(word), own))
         held = (BARE[0], (("p", "a", "b", 7, 0), ("q", "a", "b", 7, 1)))
         self.assertEqual(narrowed_to(("kept", held), "p", 0), ("kept", held))
         self.raises(NoNumber, {"number": GREAT}, narrowed_to, ("kept", held), "p", GREAT)
@@ -216,6 +226,9 @@ class GoneThrough(Case):
             for mill, _ in kept_mills(source, many, wheels, sayings, (2, 4), self.ROUNDS):
                 yield source, mill
 
+    def some_saying(self, source, ends, name):
+        return (name, *source.sample(ends, 2), source.randrange(3), source.choice((2, 4)))
+
     def some_promise(self, source, mill, word):
         names, ends = [wheel[0] for wheel in mill[0]], ["", *[wheel[0] for wheel in mill[0]]]
         marks = [saying[0] for saying in mill[1]]
@@ -225,14 +238,15 @@ class GoneThrough(Case):
         looks = tuple(sorted({(source.randrange(4), source.choice(names), source.random() < 0.5) for _ in range(2)}))
         given = {
             "kept": (), "sure": (one, other, late, dial), "needless": (source.choice(marks),),
-            "covered": (tuple((name, *source.sample(ends, 2), source.randrange(3), source.choice((2, 4)), source.randrange(2))
+            "covered": (tuple((*self.some_saying(source, ends, name), source.randrange(2))
                               for name in "xyz"[:source.randrange(1, 4)]),),
             "apart": (some,), "meet": (some,), "rule": (some[:source.randrange(2)], some[source.randrange(2):]),
             "clash": (looks,), "seen": (looks[:1], source.choice(names), tick),
             "told": (((*source.sample(ends, 2), dial),), (one, other, source.choice((2, 4)))),
             "found": (source.choice(marks), source.choice(marks)), "hands": (source.randrange(0, 3),),
-            "agree": ((mill[0], tuple((name + "x", *source.sample(ends, 2), source.randrange(2), 2) for name in "kl")),),
-            "band": ((("ann", tuple(marks[:1])), ("bob", tuple(marks[1:]))), source.choice((("ann",), ("ann", "bob"))), one, other, dial),
+            "agree": ((mill[0], tuple(self.some_saying(source, ends, name) for name in ("kx", "lx"))),),
+            "band": ((("ann", tuple(marks[:1])), ("bob", tuple(marks[1:]))), ("ann", "bob")[:source.randrange(1, 3)],
+                     one, other, dial),
         }
         return (word, mill, *given[word])
 
@@ -240,7 +254,16 @@ class GoneThrough(Case):
         return {wheel[0] for wheel in mill[0] if sign_at(wheel, dict(begins)[wheel[0]], tick) is not None}
 
     def fitted(self, mill, begins, looks):
-        return ought_setting(mill, begins) and all((wheel in self.shown(mill, begins, tick)) is so for tick, wheel, so in looks)
+        if not ought_setting(mill, begins):
+            return False
+        return all((wheel in self.shown(mill, begins, tick)) is so for tick, wheel, so in looks)
+
+    def none_fits(self, promise):
+        """Whether the word is seen, and no SETTING fits the LOOKS."""
+        if promise[0] != "seen":
+            return False
+        _, mill, looks, _, _ = promise
+        return not any(self.fitted(mill, begins, looks) for begins in self.things(("clash", mill, looks)))
 
     def far(self, begins, one, other):
         begun = {"": 0, **dict(begins)}
@@ -250,11 +273,17 @@ class GoneThrough(Case):
         name, one, other, late, dial, room = further
         return any(keeps(begins, (name, one, other, late + at, dial)) for at in range(room + 1))
 
+    def had(self, mill, told, readers):
+        """The MILL with what these readers have alone."""
+        return just(mill, [name for reader, names in told for name in names if reader in readers])
+
     def can_be(self, mill):
         return begins_up_to(mill, self.NUMBER) != []
 
     def with_off(self, mill, name, off):
-        return mill[0], tuple((*saying[:3], saying[3] + off, saying[4]) if saying[0] == name else saying for saying in mill[1])
+        return mill[0], tuple(
+            (*saying[:3], saying[3] + off, saying[4]) if saying[0] == name else saying for saying in mill[1]
+        )
 
     def ought(self, promise, thing):
         """Whether thing is a PAPER against the PROMISE, by the words of its row."""
@@ -271,9 +300,11 @@ class GoneThrough(Case):
         if word == "apart":
             return ought_setting(mill, thing[0]) and set(given[0]) <= shown(mill, *thing)
         if word == "meet":
-            return ought_setting(mill, thing) and not any(set(given[0]) <= shown(mill, thing, tick) for tick in range(self.NUMBER))
+            met = any(set(given[0]) <= shown(mill, thing, tick) for tick in range(self.NUMBER))
+            return ought_setting(mill, thing) and not met
         if word == "rule":
-            return ought_setting(mill, thing[0]) and set(given[0]) <= shown(mill, *thing) and not set(given[1]) & shown(mill, *thing)
+            seen_then = shown(mill, *thing)
+            return ought_setting(mill, thing[0]) and set(given[0]) <= seen_then and not set(given[1]) & seen_then
         if word == "clash":
             return self.fitted(mill, thing, given[0])
         if word == "seen":
@@ -293,7 +324,7 @@ class GoneThrough(Case):
             return given[0] != given[1] and not self.can_be(own) and self.can_be(self.with_off(own, given[1], thing[1]))
         if word == "band":
             told, readers, one, other, dial = given
-            own = just(mill, [name for reader, names in told for name in names if reader in readers])
+            own = self.had(mill, told, readers)
             off = self.far(thing[0], one, other) - self.far(thing[1], one, other)
             return all(ought_setting(own, begins) for begins in thing) and off % dial != 0
         own = mill if word == "kept" else (mill[0], tuple(sorted(mill[1] + given[0][1])))
@@ -309,7 +340,7 @@ class GoneThrough(Case):
             return list(itertools.product(range(self.NUMBER), repeat=2))
         if word in ("told", "band"):
             # One of both can be moved with all others of its kind, so a few first ones are enough.
-            own = mill if word == "told" else just(mill, [name for reader, names in given[0] for name in names if reader in given[1]])
+            own = mill if word == "told" else self.had(mill, given[0], given[1])
             first = [begins for begins in every if ought_setting(own, begins)][:4]
             return list(itertools.product(first, every))
         if word in ("apart", "rule", "hands"):
@@ -321,7 +352,7 @@ class GoneThrough(Case):
         for source, mill in self.mills(151, 6):
             for word in WORDS:
                 promise = self.some_promise(source, mill, word)
-                if word == "seen" and not any(self.fitted(mill, begins, promise[2]) for begins in self.things(("clash", mill, promise[2]))):
+                if self.none_fits(promise):
                     self.raises(Unfit, {}, stands, promise)
                     continue
                 if word == "agree" and not self.can_be(promise[2]):
@@ -354,7 +385,7 @@ class GoneThrough(Case):
                 if word in WHOLE:
                     continue
                 promise = self.some_promise(source, mill, word)
-                if word == "seen" and not any(self.fitted(mill, begins, promise[2]) for begins in self.things(("clash", mill, promise[2]))):
+                if self.none_fits(promise):
                     continue
                 does = [part for part in parts_of(marks) if says(with_mill(promise, just(mill, part)))]
                 self.assertEqual(grounds(promise), sorted(least_parts(does)))
@@ -383,10 +414,12 @@ class GoneThrough(Case):
 
 
 class Things(Case):
+    RIGHT = (BEGINS, (BEGINS, 3), (BEGINS, BEGINS), (1, 1))
+
     def test_any_thing(self):
         for word in WORDS:
             for promise in (promise_of(word), listed(promise_of(word)), mixed(promise_of(word))):
-                for thing in (*ODD, *changed(BEGINS), *changed((BEGINS, 3)), *changed((BEGINS, BEGINS)), *changed((1, 1))):
+                for thing in (*ODD, *[odd for right in self.RIGHT for odd in changed(right)]):
                     told = is_paper(promise, thing)
                     self.assertIs(type(told), bool)
                     if not isinstance(thing, tuple):

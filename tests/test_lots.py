@@ -4,12 +4,31 @@ import random
 import unittest
 
 from tests.brute import parts_of
-from wheelmarks.lots import fewest_lot, fewest_to_reach, greatest_lots_of, least_lots, members
+from tests.samples import MILL, ODD
+from wheelmarks.lots import (
+    all_lots, fewest_lot, fewest_to_reach, greatest_lots_of, least_lots, members, pairs_among,
+)
+from wheelmarks.values import all_but, is_set_of, just_these
 
 
 class Lots(unittest.TestCase):
     def test_members(self):
         self.assertEqual([members("abc", lot) for lot in (0, 1, 5, 6)], [(), ("a",), ("a", "c"), ("b", "c")])
+
+    def test_all_lots_and_pairs(self):
+        for things in ("", "a", "abcd"):
+            self.assertEqual(all_lots(things), [members(things, lot) for lot in range(2 ** len(things))])
+            self.assertEqual(sorted(all_lots(things)), sorted(parts_of(things)))
+            self.assertEqual(pairs_among(things), list(itertools.combinations(things, 2)))
+
+    def test_sets_of_names(self):
+        right = {repr(part) for part in parts_of(("", "a", "b"))}
+        for thing in (*ODD, *parts_of(("", "a", "b")), ("b", "a"), ("a", "a"), ["a", "b"], ("a", ["b"]), ("a", "c")):
+            self.assertIs(is_set_of(thing, ["", "a", "b"]), repr(thing) in right)
+
+    def test_some_of_the_sayings(self):
+        self.assertEqual(just_these(MILL, ("p", "r", "z")), (MILL[0], [MILL[1][0], MILL[1][2]]))
+        self.assertEqual(all_but(MILL, ("p", "r", "z")), (MILL[0], [MILL[1][1]]))
 
     def test_least_and_greatest(self):
         source = random.Random(21)

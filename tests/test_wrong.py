@@ -26,7 +26,9 @@ def all_but(mill, *gone):
 
 def with_late(mill, name, told):
     """The MILL in which the late of this SAYING is what told makes of it."""
-    return mill[0], tuple((*saying[:3], told(saying[3]), saying[4]) if saying[0] == name else saying for saying in mill[1])
+    return mill[0], tuple(
+        (*saying[:3], told(saying[3]), saying[4]) if saying[0] == name else saying for saying in mill[1]
+    )
 
 
 def written(mill, name, off):
@@ -66,7 +68,8 @@ class Edges(Case):
             self.assertIs(is_strike(mill, ()), True)
             for name in names_of(mill):
                 self.assertIs(is_strike(mill, (name,)), False)
-                self.assertIs(is_twin_paper(mill, name, name, (0, 0)), False)
+                for off in (0, 1, GREAT):
+                    self.assertIs(is_twin_paper(mill, name, name, (off, -off)), False)
                 self.assertIsNone(twin_paper(mill, name, name))
 
     def test_mills_without_a_setting(self):
@@ -95,7 +98,8 @@ class Edges(Case):
         mill = (BARE[0], (("p", "a", "b", 4, 0), ("q", "b", "a", -4, 0), ("r", "a", "b", 0, 4), ("s", "a", "b", 5, 1)))
         self.assertEqual([blind_step(mill, name) for name in "pqrs"], [0, 0, 4, 1])
         self.assertEqual([mended_late(mill, name) for name in "pqrs"], [(4, 0), (-4, 0), (0, 4), (0, 1)])
-        self.assertEqual((could_be(mill, "p", 4), could_be(mill, "p", -3), could_be(mill, "r", 2)), (("p", "q"), ("p",), ("r",)))
+        told = [could_be(mill, name, off) for name, off in (("p", 4), ("p", -3), ("r", 2))]
+        self.assertEqual(told, [("p", "q"), ("p",), ("r",)])
         self.assertEqual((twins(mill), all_told(mill)), ([("p", "q")], False))
         self.assertIs(is_seen(mill, "s", 1), False)
         self.assertIs(is_twin_paper(mill, "p", "q", twin_paper(mill, "p", "q")), True)
@@ -107,9 +111,9 @@ class Edges(Case):
     def test_numbers_are_great(self):
         wheels = tuple((name, GREAT, 4) for name in "abcdefgh")
         row = tuple(("k" + other, one, other, -GREAT, GREAT - 1) for one, other in zip("habcdefg", "abcdefgh"))
-        mill = (wheels, row + (("x", "", "h", GREAT, 0), ("y", "a", "", 3, GREAT), ("z", "d", "h", 2 * GREAT, 3 * (GREAT - 1))))
-        self.assertEqual(in_all_bad(mill), ())
-        self.assertIs(can_be_kept(mill), False)
+        # Round the eight SAYINGS of row it is -8 * GREAT, which is -8 up to GREAT - 1.
+        mill = (wheels, row + (("x", "", "h", GREAT, 0), ("z", "d", "h", 2 * GREAT, 3 * (GREAT - 1))))
+        self.assertEqual((in_all_bad(mill), can_be_kept(mill)), ((), False))
         fine = (wheels, row[1:] + (("z", "d", "h", -4 * GREAT, 3 * (GREAT - 1)), ("x", "", "h", GREAT, 0)))
         self.assertEqual((strikes((wheels, row)), len(blamed((wheels, row)))), ([(name,) for name, *_ in row], 8))
         self.assertEqual([blind_step(fine, name) for name in ("kb", "ke", "z", "x")], [1, GREAT - 1, GREAT - 1, 1])
@@ -124,8 +128,8 @@ class Edges(Case):
         row = tuple((name, *ends[place % 4], 3, (6, 4, 9, 8)[place // 4]) for place, name in enumerate("klmnopqrstuv"))
         mill = (tuple((name, 6, 1) for name in "abcd"), row)
         # Round the four with dial 9 it is 12, which 4 and 6 divide.
-        self.assertEqual((in_all_bad(mill), is_strike(mill, ("u",)), is_strike(mill, ("k",))), (("s", "t", "u", "v"), True, False))
-        self.assertIs(is_strike(mill, ("s", "t")), False)
+        self.assertEqual(in_all_bad(mill), ("s", "t", "u", "v"))
+        self.assertEqual([is_strike(mill, part) for part in (("u",), ("k",), ("s", "t"))], [True, False, False])
         fine = (mill[0], tuple((name, one, other, 0, dial) for name, one, other, _, dial in row))
         right = [pair for pair in itertools.combinations("klmnopqrstuv", 2) if any(
             name in could_be(fine, other, off) for name, other in (pair, pair[::-1]) for off in (1, 2, 3, 4, 6)
@@ -138,7 +142,9 @@ class GoneThrough(Case):
 
     def wrong_mills(self, seed, many):
         source = random.Random(seed)
-        for wheels, sayings, dials in ((3, 4, (2, 3, 4)), (2, 5, (2, 3, 6)), (2, 4, (0, 1, 2, 4)), (1, 3, (0, 4, 6)), (2, 0, (1,))):
+        for wheels, sayings, dials in (
+            (3, 4, (2, 3, 4)), (2, 5, (2, 3, 6)), (2, 4, (0, 1, 2, 4)), (1, 3, (0, 4, 6)), (2, 0, (1,)),
+        ):
             yield from small_mills(source, many, wheels, sayings, dials, self.LATES)
 
     def fine_mills(self, seed, many):

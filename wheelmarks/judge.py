@@ -188,13 +188,17 @@ def leans_on(promise):
 
 def grounds(promise):
     """The ascending list of the sets of SAYINGS with which alone, and no part of them, the PROMISE stands."""
-    need_parted(promise)
-    stands(promise)
+    needed = leans_on(promise)
+    if promise[0] == "kept":
+        # It stands without SAYINGS, and is the one word for which more of them can be too many.
+        return [()]
     names = saying_names(promise[1])
     bits = [1 << place for place in range(len(names))]
     does = []
     for lot, kept in enumerate(all_lots(names)):
-        # One with a part that does is no ground itself, so it need not be asked.
-        told = any([does[lot ^ bit] for bit in bits if lot & bit != 0])
-        does.append(told or stands(with_mill(promise, just_these(promise[1], kept))))
+        # One with a part that does is no ground itself, and one without what is needed does not stand.
+        so = any([does[lot ^ bit] for bit in bits if lot & bit != 0])
+        if not so and all([name in kept for name in needed]):
+            so = stands(with_mill(promise, just_these(promise[1], kept)))
+        does.append(so)
     return least_lots(names, does)
