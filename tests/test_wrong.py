@@ -195,15 +195,19 @@ class GoneThrough(Case):
                     self.assertIs(can_be_kept(with_late(mill, name, lambda _: mended[0])), True)
         self.assertEqual(told, {(True, False), (False, False), (False, True)})
 
+    def turn_with_off(self, mill):
+        """A number up to which lates wrong by what offs_of tells are to the tick where dials are 0."""
+        return fine_turn(mill, 24 if any(saying[4] == 0 for saying in mill[1]) else 6)
+
     def offs_of(self, mill, name):
         """The offs to go through for this SAYING, and for each whether it is seen."""
-        number = fine_turn(mill, 6)
+        number = self.turn_with_off(mill)
         dial = dict((saying[0], saying[4]) for saying in mill[1])[name]
         return [(off, not kept_up_to(written(mill, name, off), number)) for off in range(-2, (dial or 12) + 1)]
 
     def test_one_late_wrong(self):
         for mill, _ in self.fine_mills(113, 8):
-            number = fine_turn(mill, 6)
+            number = self.turn_with_off(mill)
             for name in names_of(mill):
                 step = blind_step(mill, name)
                 for off, seen in self.offs_of(mill, name):
@@ -236,7 +240,7 @@ class GoneThrough(Case):
     def test_twin_papers(self):
         found = 0
         for mill, _ in self.fine_mills(115, 3):
-            number = fine_turn(mill, 6)
+            number = self.turn_with_off(mill)
             for first, second in itertools.permutations(names_of(mill), 2):
                 for thing in itertools.product(range(-1, 4), repeat=2):
                     own = written(mill, first, thing[0])
